@@ -77,6 +77,47 @@ func TestP2_1_ConstantsAreTheGreatest(t *testing.T) {
 	}
 }
 
+func TestP2_1_ConstantsAreReckonedOnce(t *testing.T) {
+	Constants()
+	if first != firstState() || rounds != roundWords() {
+		t.Errorf("reckoned: %x, %x", first, rounds)
+	}
+	once.Do(func() { t.Error("reckoned again") })
+}
+
+// The answers are held against the library's while the variables hold other words, all of them or one alone.
+func TestP2_1_AnswersHangOnNoVariable(t *testing.T) {
+	wantFirst, wantRounds := Constants()
+	begun := New()
+	begun.Write(sample(100))
+	keptFirst, keptRounds := first, rounds
+	defer func() { first, rounds = keptFirst, keptRounds }()
+	for i, change := range []func(){
+		func() { clear(first[:]) },
+		func() { clear(rounds[:]) },
+		func() { first, rounds = [8]uint32{}, [64]uint32{} },
+		func() { first[7]++ },
+		func() { rounds[63]++ },
+	} {
+		first, rounds = keptFirst, keptRounds
+		change()
+		gotFirst, gotRounds := Constants()
+		if gotFirst != wantFirst || gotRounds != wantRounds {
+			t.Errorf("change %d: %x, %x", i, gotFirst, gotRounds)
+		}
+		for _, n := range edges() {
+			if got := Sum(sample(n)); got != want(sample(n)) {
+				t.Errorf("change %d: Sum of %d bytes = %x", i, n, got)
+			}
+		}
+		again := begun.Copy()
+		again.Write("abc")
+		if again.Sum() != want(sample(100)+"abc") || again.Len() != 103 {
+			t.Errorf("change %d: %d bytes, digest %x", i, again.Len(), again.Sum())
+		}
+	}
+}
+
 func TestP2_1_ConstantsAreTheCallersOwn(t *testing.T) {
 	before := Sum("abc")
 	first, rounds := Constants()
